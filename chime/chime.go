@@ -4,6 +4,8 @@ package chime
 import (
 	"chime/api"
 	"chime/packet"
+	"chime/peer"
+	"chime/server"
 	"chime/span"
 	"chime/timetext"
 )
@@ -25,23 +27,25 @@ func Measure(t1, t2, t3, t4 uint64) api.Sample { return span.Measure(t1, t2, t3,
 
 // Reply answers a request (P6).
 func Reply(request []byte, state api.Packet, receive, transmit uint64) ([]byte, api.Errno) {
-	return nil, api.OK
+	return server.Reply(request, state, receive, transmit)
 }
 
 // Peer is a server that is asked.
-type Peer struct{}
+type Peer struct{ inner peer.Peer }
 
 // NewPeer makes one that was not asked yet (P7).
-func NewPeer() *Peer { return nil }
+func NewPeer() *Peer { return &Peer{} }
 
 // Ask makes a request (P7).
-func (p *Peer) Ask(transmit uint64) []byte { return nil }
+func (p *Peer) Ask(transmit uint64) []byte { return p.inner.Ask(transmit) }
 
 // Take takes an answer (P7).
-func (p *Peer) Take(reply []byte, at uint64) (api.Sample, api.Errno) { return api.Sample{}, api.OK }
+func (p *Peer) Take(reply []byte, at uint64) (api.Sample, api.Errno) {
+	return p.inner.Take(reply, at)
+}
 
 // Best tells the best of the last samples, and how much they differ (P8).
-func (p *Peer) Best() (api.Sample, float64, api.Errno) { return api.Sample{}, 0, api.OK }
+func (p *Peer) Best() (api.Sample, float64, api.Errno) { return p.inner.Best() }
 
 // Select tells on what enough clocks agree (P9).
 func Select(l []api.Tick) (api.Choice, api.Errno) { return api.Choice{}, api.OK }

@@ -130,17 +130,24 @@ func TestP3Length(t *testing.T) {
 	checkParse(t, "a megabyte", make([]byte, 1<<20), api.Packet{}, api.ErrLong)
 }
 
-func TestP3FormRanges(t *testing.T) {
-	for _, c := range []struct {
-		name        string
-		field       func(*api.Packet) *int
-		least, most int
-	}{
+// rangedField is a field of a packet that ErrRange is about.
+type rangedField struct {
+	name        string
+	field       func(*api.Packet) *int
+	least, most int
+}
+
+func ranged() []rangedField {
+	return []rangedField{
 		{"Leap", func(p *api.Packet) *int { return &p.Leap }, 0, 3},
 		{"Stratum", func(p *api.Packet) *int { return &p.Stratum }, 0, 255},
 		{"Poll", func(p *api.Packet) *int { return &p.Poll }, -128, 127},
 		{"Precision", func(p *api.Packet) *int { return &p.Precision }, -128, 127},
-	} {
+	}
+}
+
+func TestP3FormRanges(t *testing.T) {
+	for _, c := range ranged() {
 		for _, n := range []int{c.least, c.least + 1, c.most - 1, c.most} {
 			p, _ := plain()
 			*c.field(&p) = n

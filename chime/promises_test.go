@@ -65,8 +65,46 @@ func TestP1ErrorsComeAlone(t *testing.T) {
 		if e != api.OK && v != 0 || e != api.ErrText && place != 0 || place < 0 || place > len(text) {
 			t.Errorf("P1: Read(%q) = %d, %d, %d", text, v, e, place)
 		}
+		if b, e := chime.Reply(wildFormed(r), p, r.Uint64(), r.Uint64()); (e == api.OK) != (len(b) == api.Size) || e != api.OK && b != nil {
+			t.Errorf("P1: Reply = % x, %d", b, e)
+		}
 		chime.Tell(r.Uint64())
 		chime.Measure(r.Uint64(), r.Uint64(), r.Uint64(), r.Uint64())
+	}
+}
+
+// wildFormed is often a request, or an answer to one of few, so that some are taken.
+func wildFormed(r *rand.Rand) []byte {
+	p := randomPacket(r)
+	p.Origin, p.Mode, p.Stratum = uint64(r.Intn(3)), 3+r.Intn(2), r.Intn(18)
+	b, _ := chime.Form(p)
+	if r.Intn(8) == 0 {
+		return wildBytes(r)
+	}
+	return b
+}
+
+func TestP1PeersAtAnything(t *testing.T) {
+	r := rand.New(rand.NewSource(12))
+	p := chime.NewPeer()
+	taken := 0
+	for range 20000 {
+		if r.Intn(2) == 0 {
+			p.Ask(uint64(r.Intn(3)))
+		}
+		before, differBefore, errnoBefore := p.Best()
+		s, e := p.Take(wildFormed(r), r.Uint64())
+		after, differAfter, errnoAfter := p.Best()
+		if e == api.OK {
+			taken++
+			continue
+		}
+		if s != (api.Sample{}) || before != after || differBefore != differAfter || errnoBefore != errnoAfter {
+			t.Errorf("P1: Take = %+v, %d; the best was %+v, %v, %d, is %+v, %v, %d", s, e, before, differBefore, errnoBefore, after, differAfter, errnoAfter)
+		}
+	}
+	if taken < 100 {
+		t.Errorf("P1: only %d replies were taken", taken)
 	}
 }
 
@@ -114,25 +152,87 @@ func TestP2FormGivesNewRoom(t *testing.T) {
 	p, want := plain()
 	first, _ := chime.Form(p)
 	second, _ := chime.Form(p)
-	for i := range first[:cap(first)] {
-		first[:cap(first)][i] = 0xee
-	}
+	overwrite(first)
 	third, _ := chime.Form(p)
 	if !bytes.Equal(second, want) || !bytes.Equal(third, want) {
 		t.Errorf("P2: Form after another answer was written into: % x, % x", second, third)
 	}
 }
 
+func TestP2ReplyAndTakeWriteNothing(t *testing.T) {
+	_, request := plain()
+	reply := formed(t, answering(1000, 2000, 2000))
+	p := chime.NewPeer()
+	for _, b := range [][]byte{request, reply, reply[:47], append(reply[:48:48], 1), make([]byte, 48), {}} {
+		whole := ourRoom(b, 64)
+		before := bytes.Clone(whole)
+		handed := whole[64 : 64+len(b)]
+		p.Ask(1000)
+		p.Take(handed, 1010)
+		chime.Reply(handed, serving(), 1, 2)
+		chime.Reply(handed, serving(), 2, 1)
+		if !bytes.Equal(whole, before) {
+			t.Errorf("P2: Take or Reply of %d bytes wrote: % x", len(b), whole)
+		}
+	}
+}
+
+// overwrite writes into bytes and behind them.
+func overwrite(b []byte) {
+	for i := range b[:cap(b)] {
+		b[:cap(b)][i] = 0xee
+	}
+}
+
+func TestP2ReplyGivesNewRoom(t *testing.T) {
+	_, request := plain()
+	want, _ := chime.Reply(request, serving(), 1, 2)
+	want = bytes.Clone(want)
+	first, _ := chime.Reply(request, serving(), 1, 2)
+	second, _ := chime.Reply(request, serving(), 1, 2)
+	overwrite(first)
+	third, _ := chime.Reply(request, serving(), 1, 2)
+	if !bytes.Equal(second, want) || !bytes.Equal(third, want) {
+		t.Errorf("P2: Reply after another answer was written into: % x, % x, want % x", second, third, want)
+	}
+	_, before := plain()
+	if !bytes.Equal(request, before) {
+		t.Errorf("P2: the request shares room with the answer: % x", request)
+	}
+}
+
+func TestP2PeersKeepNoBytes(t *testing.T) {
+	p := chime.NewPeer()
+	first := p.Ask(1000)
+	second := p.Ask(1000)
+	want := bytes.Clone(second)
+	overwrite(first)
+	if !bytes.Equal(second, want) {
+		t.Errorf("P2: Ask after another answer was written into: % x, want % x", second, want)
+	}
+	overwrite(second)
+	reply := formed(t, answering(1000, 2000, 2000))
+	checkTake(t, "the request was written into", p, reply, 1002, api.Sample{Offset: 999, Delay: 2}, api.OK)
+	overwrite(reply)
+	checkBest(t, "the reply was written into", p, api.Sample{Offset: 999, Delay: 2}, 0, api.OK)
+}
+
 // oneOfEach tells what the calls answer to some inputs.
 func oneOfEach(seed int64) []any {
 	r := rand.New(rand.NewSource(seed))
 	var l []any
+	p := chime.NewPeer()
 	for range 500 {
 		parsed, e := chime.Parse(wildBytes(r))
 		formed, f := chime.Form(wildPacket(r))
 		read, g, place := chime.Read(wildText(r))
 		l = append(l, parsed, e, string(formed), f, read, g, place)
 		l = append(l, chime.Tell(r.Uint64()), chime.Measure(r.Uint64(), r.Uint64(), r.Uint64(), r.Uint64()))
+		request := p.Ask(uint64(r.Intn(3)))
+		replied, h := chime.Reply(request, wildPacket(r), r.Uint64(), r.Uint64())
+		sample, i := p.Take(wildFormed(r), r.Uint64())
+		best, differ, j := p.Best()
+		l = append(l, string(request), string(replied), h, sample, i, best, differ, j)
 	}
 	return l
 }

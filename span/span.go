@@ -8,6 +8,11 @@ func Difference(a, b uint64) int64 {
 	return int64(a - b)
 }
 
+// Ahead tells whether a is the earlier one.
+func Ahead(a, b uint64) bool {
+	return Difference(a, b) < 0
+}
+
 // Measure tells offset and delay of a request and its answer.
 func Measure(t1, t2, t3, t4 uint64) api.Sample {
 	return api.Sample{
