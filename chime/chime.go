@@ -2,6 +2,7 @@
 package chime
 
 import (
+	"chime/agree"
 	"chime/api"
 	"chime/packet"
 	"chime/peer"
@@ -48,10 +49,10 @@ func (p *Peer) Take(reply []byte, at uint64) (api.Sample, api.Errno) {
 func (p *Peer) Best() (api.Sample, float64, api.Errno) { return p.inner.Best() }
 
 // Select tells on what enough clocks agree (P9).
-func Select(l []api.Tick) (api.Choice, api.Errno) { return api.Choice{}, api.OK }
+func Select(l []api.Tick) (api.Choice, api.Errno) { return agree.Select(l) }
 
 // Combine tells what they say together (P10).
-func Combine(l []api.Tick) (int64, api.Errno) { return 0, api.OK }
+func Combine(l []api.Tick) (int64, api.Errno) { return agree.Combine(l) }
 
 // Clock is one that never goes back.
 type Clock struct{}

@@ -2,7 +2,9 @@ package chime_test
 
 import (
 	"bytes"
+	"fmt"
 	"math/rand"
+	"slices"
 	"sync"
 	"testing"
 
@@ -105,6 +107,35 @@ func TestP1PeersAtAnything(t *testing.T) {
 	}
 	if taken < 100 {
 		t.Errorf("P1: only %d replies were taken", taken)
+	}
+}
+
+// wildTicks are often some that can be chosen from, at times too many, none, or any numbers.
+func wildTicks(r *rand.Rand) []api.Tick {
+	switch r.Intn(4) {
+	case 0:
+		return fewTicks(r)
+	case 1:
+		return wideTicks(r)
+	}
+	l := make([]api.Tick, r.Intn(api.MaxTicks+4))
+	for i := range l {
+		l[i] = api.Tick{Mid: int64(r.Uint64()) >> uint(r.Intn(64)), Far: int64(r.Uint64() >> uint(r.Intn(64)))}
+	}
+	return l
+}
+
+func TestP1ClocksAtAnything(t *testing.T) {
+	r := rand.New(rand.NewSource(13))
+	for range 20000 {
+		l := wildTicks(r)
+		c, e := chime.Select(l)
+		if e != api.OK && (c.Low != 0 || c.High != 0 || c.Who != nil) {
+			t.Errorf("P1: Select(%v) = %+v, %d", l, c, e)
+		}
+		if n, f := chime.Combine(l); f != e || f != api.OK && n != 0 {
+			t.Errorf("P1: Combine(%v) = %d, %d, of which Select says %d", l, n, f, e)
+		}
 	}
 }
 
@@ -217,6 +248,39 @@ func TestP2PeersKeepNoBytes(t *testing.T) {
 	checkBest(t, "the reply was written into", p, api.Sample{Offset: 999, Delay: 2}, 0, api.OK)
 }
 
+func TestP2SelectAndCombineWriteNothing(t *testing.T) {
+	r := rand.New(rand.NewSource(14))
+	for range 2000 {
+		l := wildTicks(r)
+		whole := slices.Repeat(ticks([2]int64{-77, 77}), 40+len(l)+40)
+		copy(whole[40:], l)
+		before := slices.Clone(whole)
+		handed := whole[40 : 40+len(l)]
+		chime.Select(handed)
+		chime.Combine(handed)
+		if !slices.Equal(whole, before) {
+			t.Errorf("P2: Select or Combine of %v wrote: %v", l, whole)
+		}
+	}
+}
+
+func TestP2SelectGivesNewRoom(t *testing.T) {
+	r := rand.New(rand.NewSource(15))
+	for range 2000 {
+		l := wildTicks(r)
+		first, _ := chime.Select(l)
+		second, _ := chime.Select(l)
+		want := api.Choice{Low: second.Low, High: second.High, Who: slices.Clone(second.Who)}
+		for i := range first.Who[:cap(first.Who)] {
+			first.Who[:cap(first.Who)][i] = 99
+		}
+		third, _ := chime.Select(l)
+		if !sameChoice(second, want) || !sameChoice(third, want) {
+			t.Errorf("P2: Select(%v) after another answer was written into: %+v, %+v, want %+v", l, second, third, want)
+		}
+	}
+}
+
 // oneOfEach tells what the calls answer to some inputs.
 func oneOfEach(seed int64) []any {
 	r := rand.New(rand.NewSource(seed))
@@ -233,6 +297,10 @@ func oneOfEach(seed int64) []any {
 		sample, i := p.Take(wildFormed(r), r.Uint64())
 		best, differ, j := p.Best()
 		l = append(l, string(request), string(replied), h, sample, i, best, differ, j)
+		clocks := wildTicks(r)
+		choice, k := chime.Select(clocks)
+		combined, m := chime.Combine(clocks)
+		l = append(l, fmt.Sprint(choice), k, combined, m)
 	}
 	return l
 }
