@@ -4,6 +4,7 @@ package chime
 import (
 	"chime/agree"
 	"chime/api"
+	"chime/clock"
 	"chime/packet"
 	"chime/peer"
 	"chime/server"
@@ -55,16 +56,20 @@ func Select(l []api.Tick) (api.Choice, api.Errno) { return agree.Select(l) }
 func Combine(l []api.Tick) (int64, api.Errno) { return agree.Combine(l) }
 
 // Clock is one that never goes back.
-type Clock struct{}
+type Clock struct{ inner clock.Clock }
 
 // NewClock makes one that does not know the time yet (P11).
-func NewClock() *Clock { return nil }
+func NewClock() *Clock { return &Clock{} }
 
 // Publish sets it (P11).
-func (c *Clock) Publish(counter, time uint64, rate int64) api.Errno { return api.OK }
+func (c *Clock) Publish(counter, time uint64, rate int64) api.Errno {
+	return c.inner.Publish(counter, time, rate)
+}
 
 // Now tells the time (P12).
-func (c *Clock) Now(counter uint64) (uint64, api.Errno) { return 0, api.OK }
+func (c *Clock) Now(counter uint64) (uint64, api.Errno) { return c.inner.Now(counter) }
 
 // Serve tells many times, by several readers (P12).
-func (c *Clock) Serve(counters []uint64, readers int) ([]uint64, api.Errno) { return nil, api.OK }
+func (c *Clock) Serve(counters []uint64, readers int) ([]uint64, api.Errno) {
+	return c.inner.Serve(counters, readers)
+}

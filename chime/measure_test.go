@@ -76,15 +76,3 @@ func TestP5MeasureSome(t *testing.T) {
 		checkMeasure(t, t1, t2, t3, t4, measuredByWhole(t1, t2, t3, t4))
 	}
 }
-
-func TestP5OffsetOfAServer(t *testing.T) {
-	r := rand.New(rand.NewSource(7))
-	for range 2000 {
-		start, off := r.Uint64(), int64(r.Uint64())>>2
-		there, inside, back := r.Int63()>>3, r.Int63()>>3, r.Int63()>>3
-		came := start + uint64(there) + uint64(off)
-		end := start + uint64(there) + uint64(inside) + uint64(back)
-		want := api.Sample{Offset: off + (there-back)>>1, Delay: there + back}
-		checkMeasure(t, start, came, came+uint64(inside), end, want)
-	}
-}

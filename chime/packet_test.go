@@ -187,15 +187,3 @@ func randomPacket(r *rand.Rand) api.Packet {
 		Reference: r.Uint64(), Origin: r.Uint64(), Receive: r.Uint64(), Transmit: r.Uint64(),
 	}
 }
-
-func TestP3ThereAndBack(t *testing.T) {
-	r := rand.New(rand.NewSource(3))
-	for range 2000 {
-		p := randomPacket(r)
-		b, e := chime.Form(p)
-		if e != api.OK {
-			t.Fatalf("P3: Form(%+v): %d", p, e)
-		}
-		checkParse(t, "what Form made", b, p, api.OK)
-	}
-}

@@ -139,6 +139,47 @@ func TestP1ClocksAtAnything(t *testing.T) {
 	}
 }
 
+// askAnything asks a clock at any arguments, and tells how many answers were errors that did not come alone.
+func askAnything(r *rand.Rand, c *chime.Clock) (faults int) {
+	if time, e := c.Now(wildNumber(r)); e != api.OK && time != 0 {
+		faults++
+	}
+	if times, e := c.Serve(wildCounters(r, wildNumber(r), r.Intn(api.MaxReads+4)), r.Intn(api.Readers+4)-1); e != api.OK && times != nil {
+		faults++
+	}
+	if times, e := c.Serve(nil, wildInt(r)); e != api.OK && times != nil {
+		faults++
+	}
+	return faults
+}
+
+func TestP1OwnClockAtAnything(t *testing.T) {
+	r := rand.New(rand.NewSource(39))
+	refused := 0
+	for range 2000 {
+		c := chime.NewClock()
+		for range r.Intn(10) {
+			counter := wildNumber(r)
+			before, errnoBefore := c.Now(counter)
+			e := c.Publish(wildNumber(r), wildNumber(r), int64(r.Uint64())>>(50+r.Intn(10)))
+			if faults := askAnything(r, c); faults != 0 {
+				t.Errorf("P1: %d errors did not come alone", faults)
+			}
+			after, errnoAfter := c.Now(counter)
+			if e == api.OK {
+				continue
+			}
+			refused++
+			if before != after || errnoBefore != errnoAfter {
+				t.Errorf("P1: Publish refused: %d: told %d, %d, tells %d, %d", e, before, errnoBefore, after, errnoAfter)
+			}
+		}
+	}
+	if refused < 100 {
+		t.Errorf("P1: only %d were refused", refused)
+	}
+}
+
 func TestP1FirstNamedErrorIsTold(t *testing.T) {
 	if _, e := chime.Parse([]byte{0xff}); e != api.ErrShort {
 		t.Errorf("P1: Parse, short, version and mode wrong: %d", e)
@@ -285,7 +326,7 @@ func TestP2SelectGivesNewRoom(t *testing.T) {
 func oneOfEach(seed int64) []any {
 	r := rand.New(rand.NewSource(seed))
 	var l []any
-	p := chime.NewPeer()
+	p, own := chime.NewPeer(), chime.NewClock()
 	for range 500 {
 		parsed, e := chime.Parse(wildBytes(r))
 		formed, f := chime.Form(wildPacket(r))
@@ -301,6 +342,10 @@ func oneOfEach(seed int64) []any {
 		choice, k := chime.Select(clocks)
 		combined, m := chime.Combine(clocks)
 		l = append(l, fmt.Sprint(choice), k, combined, m)
+		set := own.Publish(uint64(r.Intn(1000)), wildNumber(r), r.Int63n(2100)-1050)
+		now, n := own.Now(wildNumber(r))
+		times, o := own.Serve(wildCounters(r, 500, r.Intn(api.MaxReads+2)), r.Intn(api.Readers+2))
+		l = append(l, set, now, n, fmt.Sprint(times), o)
 	}
 	return l
 }

@@ -283,18 +283,3 @@ func TestP9ManyClocks(t *testing.T) {
 	r := rand.New(rand.NewSource(22))
 	checkMany(t, 5000, func() []api.Tick { return wideTicks(r) }, edges)
 }
-
-func TestP13TrueTimeIsBetween(t *testing.T) {
-	r := rand.New(rand.NewSource(23))
-	for range 5000 {
-		truth := r.Int63n(1<<60) - 1<<59
-		l := make([]api.Tick, 1+r.Intn(api.MaxTicks))
-		for i := range l {
-			off := r.Int63n(1<<59) >> uint(r.Intn(60))
-			l[i] = api.Tick{Mid: truth + off*int64(1-2*r.Intn(2)), Far: off + r.Int63n(1+off)}
-		}
-		if c, e := chime.Select(l); e == api.OK && (truth < c.Low || truth > c.High) {
-			t.Errorf("P13: %d, which all of %v allow: %+v", truth, l, c)
-		}
-	}
-}

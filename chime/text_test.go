@@ -49,20 +49,19 @@ func TestP4Tell(t *testing.T) {
 	}
 }
 
-func TestP4TellAndBack(t *testing.T) {
-	r := rand.New(rand.NewSource(4))
+// someTimes are those at the edges, and some of every length.
+func someTimes(r *rand.Rand) []uint64 {
 	times := edgeTimes()
 	for range 5000 {
 		times = append(times, r.Uint64()>>r.Intn(64))
 	}
-	for _, v := range times {
-		told := chime.Tell(v)
-		if want := toldByFraction(v); told != want {
+	return times
+}
+
+func TestP4TellSome(t *testing.T) {
+	for _, v := range someTimes(rand.New(rand.NewSource(4))) {
+		if told, want := chime.Tell(v), toldByFraction(v); told != want {
 			t.Errorf("P4: Tell(%d) = %q, want %q", v, told, want)
-		}
-		back, e, place := chime.Read(told)
-		if e != api.OK || place != 0 || back > v || v-back > 1 {
-			t.Errorf("P4: Read(Tell(%d)) = %d, %d, %d", v, back, e, place)
 		}
 	}
 }
